@@ -1,0 +1,1 @@
+"""Nonegrowsrich: shares told each day that no told doubter ever beats."""

@@ -1,0 +1,91 @@
+"""Those rules of ../shared/LANGUAGE.md that are plainly seen from the package's files."""
+
+import ast
+import re
+import unittest
+from pathlib import Path
+
+PACKAGE = Path(__file__).resolve().parent.parent / "nonegrowsrich"
+FILES = sorted(PACKAGE.glob("*.py"))
+BUILTINS = set("""
+len range enumerate zip min max sum abs sorted reversed int str bool bytes list tuple dict set frozenset isinstance ord
+repr any all divmod iter next super property staticmethod classmethod Exception ValueError TypeError KeyError
+IndexError LookupError ZeroDivisionError ArithmeticError OverflowError RuntimeError NotImplementedError AttributeError
+StopIteration NotImplemented
+""".split())
+BARRED = set("""
+type typing typing_extensions enum Enum IntEnum StrEnum Flag IntFlag Generic Protocol ABC ABCMeta namedtuple NamedTuple
+TypedDict TYPE_CHECKING abstractmethod
+""".split())
+
+
+def bound_names(tree):
+    """Every name that a file binds anywhere."""
+    names = set()
+    for node in ast.walk(tree):
+        if isinstance(node, (ast.FunctionDef, ast.ClassDef)):
+            names.add(node.name)
+        elif isinstance(node, ast.arg):
+            names.add(node.arg)
+        elif isinstance(node, ast.alias):
+            names.add(node.asname or node.name)
+        elif isinstance(node, ast.Name) and isinstance(node.ctx, ast.Store):
+            names.add(node.id)
+    return names
+
+
+class LanguageTest(unittest.TestCase):
+    def trees(self):
+        for file in FILES:
+            yield file.name, ast.parse(file.read_text())
+
+    def test_the_package_holds_python_files_alone(self):
+        names = [path.name for path in PACKAGE.iterdir() if path.name != "__pycache__"]
+        self.assertIn("__init__.py", names)
+        for name in names:
+            self.assertTrue(re.fullmatch(r"[a-z0-9_]+\.py", name), name)
+
+    def test_characters_and_sizes(self):
+        for file in FILES:
+            text = file.read_text()
+            self.assertTrue(re.fullmatch(r"[\n -~]*", text), file.name)
+            self.assertLessEqual(len(text.splitlines()), 400, file.name)
+            self.assertLessEqual(max(len(line) for line in text.splitlines()), 120, file.name)
+            self.assertEqual(BARRED & set(re.findall(r"\w+", text)), set(), file.name)
+
+    def test_functions_are_small(self):
+        for name, tree in self.trees():
+            for node in ast.walk(tree):
+                if isinstance(node, ast.FunctionDef):
+                    self.assertLessEqual(node.end_lineno - node.lineno + 1, 40, (name, node.name))
+
+    def test_imports_name_the_file_that_defines(self):
+        defined = {name: {node.name for node in tree.body if hasattr(node, "name")} for name, tree in self.trees()}
+        for name, tree in self.trees():
+            for node in ast.walk(tree):
+                self.assertNotIsInstance(node, ast.Import)
+                if isinstance(node, ast.ImportFrom):
+                    package, module = node.module.split(".")
+                    self.assertEqual((package, node.level), ("nonegrowsrich", 0), name)
+                    for alias in node.names:
+                        self.assertIn(alias.name, defined[module + ".py"], name)
+
+    def test_names_are_own_or_allowed(self):
+        for name, tree in self.trees():
+            names = bound_names(tree)
+            self.assertEqual(names & BUILTINS, set(), name)
+            for node in ast.walk(tree):
+                if isinstance(node, ast.Name):
+                    self.assertIn(node.id, names | BUILTINS, name)
+                    self.assertFalse(node.id.startswith("_"), name)
+
+    def test_no_floats_and_no_division(self):
+        for name, tree in self.trees():
+            for node in ast.walk(tree):
+                self.assertNotIsInstance(node, (ast.Div, ast.Global, ast.AsyncFunctionDef, ast.Await), name)
+                if isinstance(node, ast.Constant):
+                    self.assertNotIsInstance(node.value, (float, complex), name)
+
+
+if __name__ == "__main__":
+    unittest.main()
