@@ -1,6 +1,6 @@
 """Expressions: what they are, what they are worth at shares, and how far and how crookedly they reach."""
 
-from nonegrowsrich.shares import is_number
+from nonegrowsrich.shares import is_within
 
 # What stands behind each word, in order; a "part" is an expression itself.
 SHAPES = {
@@ -26,6 +26,7 @@ BOUNDS = {
 
 MOST_PARTS = 40
 MOST_DEEP = 8
+HOW_MANY_REGISTERS = 4
 
 
 def fits(kind, thing, many):
@@ -33,20 +34,36 @@ def fits(kind, thing, many):
     if kind == "part":
         return True
     low, high = (0, many - 1) if kind == "sign" else BOUNDS[kind]
-    return is_number(thing) and low <= thing <= high
+    return is_within(thing, low, high)
+
+
+def first_word(thing):
+    """The text that a tuple begins with, of anything; None where it is no such tuple."""
+    # A list or a dict could not be looked up in a table of words.
+    if isinstance(thing, tuple) and thing and isinstance(thing[0], str):
+        return thing[0]
+    return None
+
+
+def fits_shape(thing, shape, many):
+    """Whether what stands behind a tuple's word is as the shape tells, its parts left aside."""
+    if len(thing) != len(shape) + 1:
+        return False
+    return all([fits(kind, item, many) for kind, item in zip(shape, thing[1:])])
 
 
 def has_shape(thing, many):
     """Whether it is a tuple of a word and what belongs behind that word, its parts left aside."""
-    if not isinstance(thing, tuple) or not thing:
+    word = first_word(thing)
+    return word in SHAPES and fits_shape(thing, SHAPES[word], many)
+
+
+def is_registers(thing):
+    """Whether it is registers, of anything."""
+    if not isinstance(thing, tuple) or len(thing) != HOW_MANY_REGISTERS:
         return False
-    # A list or a dict as the word could not be looked up in the table.
-    if not isinstance(thing[0], str) or thing[0] not in SHAPES:
-        return False
-    shape = SHAPES[thing[0]]
-    if len(thing) != len(shape) + 1:
-        return False
-    return all([fits(kind, item, many) for kind, item in zip(shape, thing[1:])])
+    low, high = BOUNDS["figure"]
+    return all([is_within(number, low, high) for number in thing])
 
 
 def parts(expression):

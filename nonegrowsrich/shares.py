@@ -6,6 +6,11 @@ def is_number(thing):
     return isinstance(thing, int) and not isinstance(thing, bool)
 
 
+def is_within(thing, low, high):
+    """Whether it is a number from low to high."""
+    return is_number(thing) and low <= thing <= high
+
+
 def common_part(row):
     """The greatest number that divides all of the row; 0 where all are 0."""
     part = 0

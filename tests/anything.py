@@ -10,7 +10,7 @@ def nested(make, deep):
 
 
 def wrong_things():
-    """Things that are no shares, no expressions and no pairs that show a jump."""
+    """Things that are no shares, expressions, pairs that show a jump, doubters, houses or paths that lead anywhere."""
     return [
         None, True, False, 0, 1, -1, 7, 10 ** 60, "", "fig", "share 0", "1:2", "\n", "\u00e9\u4e2d",
         (), [], {}, ((),), [[]], (None,), (None, None), (None, None, None), ("fig",), ("", ""), ("a", "b", "c"),
@@ -40,3 +40,31 @@ def broad(count):
         return ("times", 2, ("share", 1))
     left = (count - 1) // 2
     return ("sum", broad(left), broad(count - 1 - left))
+
+
+def spots(thing, path=()):
+    """(path, what stands there) of a thing and of all in it, through tuples."""
+    found = [(path, thing)]
+    if isinstance(thing, tuple):
+        for at, item in enumerate(thing):
+            found += spots(item, path + (at,))
+    return found
+
+
+def with_spot(thing, path, item):
+    """The thing with the item in the place of what stands at the path."""
+    if not path:
+        return item
+    at = path[0]
+    return thing[:at] + (with_spot(thing[at], path[1:], item),) + thing[at + 1:]
+
+
+def wrong_in_place_of(item):
+    """Things of other kinds than the item: whatever takes the item takes none of these in its place."""
+    wrong = [None, True, False, [], {}, [1], {"a": 1}, ("no",), (None,), ([],), ({},), ((((),),),), (True, False)]
+    wrong += [nested(lambda x: (x,), 20), nested(lambda x: [x], 20), nested(lambda x: {"k": x}, 20), 10 ** 60]
+    if isinstance(item, tuple):
+        return wrong + [0, 1, -1, "", "a", "put", list(item), {0: item}, dict(enumerate(item)), (item,), [item]]
+    if isinstance(item, str):
+        return wrong + [0, 1, (), (item,), [item], {item: item}, "", item + " ", item.upper(), item + "\n"]
+    return wrong + ["", "a", str(item), (), (item,), [item]]

@@ -87,3 +87,23 @@ def slow_wheres(expression, registers, met=True):
             here = met and (registers[rest[0]] < rest[1]) == (at == 0)
         found += slow_wheres(part, registers, here)
     return found
+
+
+def slow_behind(deeds, registers, shares):
+    """The registers behind the deeds, kept in one list."""
+    held = list(registers)
+
+    def run(row):
+        for word, place, what, *sides in row:
+            if word == "when":
+                run(sides[0] if held[place] < what else sides[1])
+                continue
+            held[place] = {
+                "put": lambda: what, "add": lambda: held[place] + what, "copy": lambda: held[what],
+                "plus": lambda: held[place] + held[what],
+                "told": lambda: int(Fraction(1000 * shares[what], sum(shares))),
+            }[word]()
+            held[place] = sorted((-1000, held[place], 1000))[1]
+
+    run(deeds)
+    return tuple(held)

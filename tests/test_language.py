@@ -70,6 +70,14 @@ class LanguageTest(unittest.TestCase):
                     for alias in node.names:
                         self.assertIn(alias.name, defined[module + ".py"], name)
 
+    def test_imports_are_used(self):
+        for name, tree in self.trees():
+            used = {node.id for node in ast.walk(tree) if isinstance(node, ast.Name)}
+            for node in ast.walk(tree):
+                if isinstance(node, ast.ImportFrom):
+                    for alias in node.names:
+                        self.assertIn(alias.asname or alias.name, used, name)
+
     def test_names_are_own_or_allowed(self):
         for name, tree in self.trees():
             names = bound_names(tree)
