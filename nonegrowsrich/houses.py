@@ -157,11 +157,16 @@ def left(house, path):
     return ((many, with_members(members, around, rest)), motes(gone))
 
 
+def one_factor(one):
+    """What a one's stakes are multiplied by in its pulls."""
+    word, doubter, registers, weight, held, owed, days, got = one
+    return held * power(GREATEST_SCALE - doubter[1])
+
+
 def one_pull(one, shares):
     """How hard a one pulls on each sign at the shares."""
-    word, doubter, registers, weight, held, owed, days, got = one
-    factor = held * power(GREATEST_SCALE - doubter[1])
-    return [factor * stake for stake in stakes_at(doubter, registers, shares)]
+    factor = one_factor(one)
+    return [factor * stake for stake in stakes_at(one[1], one[2], shares)]
 
 
 def pull(house, shares):

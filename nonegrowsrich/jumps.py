@@ -1,11 +1,11 @@
 """Jumps: whether a where word's parts are unlike at some shares on its line.
 
-Along a line an expression is made of straight pieces, so each of them is weighed as a whole. A cell is a pair of
-shares: all shares between both, or, where both are the same, these alone. A form is a number for each sign; its worth
-at shares is the sum of its numbers times theirs.
+Along a line an expression is made of straight pieces, so each of them is weighed as a whole.
 """
 
-from nonegrowsrich.expressions import led_part, parts, worth
+from nonegrowsrich.bends import bend_of, central, settled
+from nonegrowsrich.cells import parted, shares_in
+from nonegrowsrich.expressions import parts, worth
 from nonegrowsrich.shares import is_number, is_shares, lowest
 
 
@@ -23,128 +23,6 @@ def where_words(expression, registers, met=True):
     return words
 
 
-def form_at(form, shares):
-    """The form's worth at the shares."""
-    return sum([weight * number for weight, number in zip(form, shares)])
-
-
-def scale_form(factor, form):
-    """The form, each number times the factor."""
-    return tuple([factor * weight for weight in form])
-
-
-def less_form(first, second):
-    """The first form without the second."""
-    return tuple([one - other for one, other in zip(first, second)])
-
-
-def sum_form(first, second):
-    """Both forms together."""
-    return tuple([one + other for one, other in zip(first, second)])
-
-
-def between(cell, near, far):
-    """The shares inside a cell that part it by these two weights of its ends, both above 0."""
-    low, high = cell
-    return lowest(sum_form(scale_form(near, low), scale_form(far, high)))
-
-
-def split_cell(cell, form):
-    """The cell in cells on each of which the form is below 0, is 0 or is above 0 all along."""
-    low, high = cell
-    at_low = form_at(form, low)
-    at_high = form_at(form, high)
-    if at_low * at_high >= 0:
-        return [cell]
-    middle = between(cell, abs(at_high), abs(at_low))
-    return [(low, middle), (middle, middle), (middle, high)]
-
-
-def is_below(cell, form):
-    """Whether the form is below 0 on the cell, where it has one sign all along."""
-    low, high = cell
-    # One end may lie on the form's own line without being inside the cell, so both are asked.
-    return form_at(form, low) + form_at(form, high) < 0
-
-
-def flat_form(figure, many):
-    """The form that is worth figure by n at all shares."""
-    return (figure,) * many
-
-
-def share_form(sign, many):
-    """The form that is worth 1000 times the sign's number."""
-    return tuple([1000 if place == sign else 0 for place in range(many)])
-
-
-def straight_form(expression, registers, many):
-    """The form of an expression without parts."""
-    word, figure = expression
-    if word == "share":
-        return share_form(figure, many)
-    return flat_form(registers[figure] if word == "reg" else figure, many)
-
-
-def where_pieces(expression, registers, cell):
-    """The pieces of a where word on the cell."""
-    word, sign, line, first, second = expression
-    many = len(cell[0])
-    side = less_form(share_form(sign, many), flat_form(line, many))
-    found = []
-    for part_cell in split_cell(cell, side):
-        part = first if is_below(part_cell, side) else second
-        found.extend(pieces(part, registers, part_cell))
-    return found
-
-
-def piece_pairs(first, second, registers, cell):
-    """(cell, form of the first, form of the second) of cells that together are the cell."""
-    return [
-        (small, form, other)
-        for large, form in pieces(first, registers, cell)
-        for small, other in pieces(second, registers, large)
-    ]
-
-
-def bent_pieces(word, cell, first, second):
-    """The pieces of the least or the most of two forms on the cell."""
-    difference = less_form(first, second)
-    lesser_asked = word == "least"
-    found = []
-    for part_cell in split_cell(cell, difference):
-        first_taken = is_below(part_cell, difference) == lesser_asked
-        found.append((part_cell, first if first_taken else second))
-    return found
-
-
-def join_pieces(word, cell, first, second):
-    """The pieces of a word of two parts alone, by their forms on the cell."""
-    if word == "sum":
-        return [(cell, sum_form(first, second))]
-    if word == "less":
-        return [(cell, less_form(first, second))]
-    return bent_pieces(word, cell, first, second)
-
-
-def pieces(expression, registers, cell):
-    """(cell, form) of cells that together are the cell: on each the expression is worth the form."""
-    word = expression[0]
-    if word in ("fig", "reg", "share"):
-        return [(cell, straight_form(expression, registers, len(cell[0])))]
-    if word in ("times", "by"):
-        factor = expression[1] if word == "times" else registers[expression[1]]
-        inside = pieces(expression[2], registers, cell)
-        return [(small, scale_form(factor, form)) for small, form in inside]
-    if word == "when":
-        return pieces(led_part(expression, registers), registers, cell)
-    if word == "where":
-        return where_pieces(expression, registers, cell)
-    found = []
-    for small, first, second in piece_pairs(expression[1], expression[2], registers, cell):
-        found.extend(join_pieces(word, small, first, second))
-    return found
-
-
 def line_end(sign, line, other, many):
     """The shares on a where word's line at which all that the sign leaves is the other sign's."""
     row = [0] * many
@@ -158,17 +36,29 @@ def line_cells(sign, line, many):
     ends = [line_end(sign, line, other, many) for other in range(many) if other != sign]
     low, high = ends[0], ends[-1]
     if low == high:
-        return [(low, low)]
-    return [(low, low), (low, high), (high, high)]
+        return [(low,)]
+    return [(low,), (low, high), (high,)]
 
 
-def unlike_shares(cell, first, second):
-    """Shares in the cell at which both forms are unlike; None where there are none."""
-    difference = less_form(first, second)
-    # A form that is 0 at two shares of a cell is 0 all along it.
-    for near in (1, 2):
-        shares = between(cell, near, 1)
-        if form_at(difference, shares) != 0:
+def some_off_zero(form, cell):
+    """Shares in the cell at which the form is not 0; None where there are none."""
+    for side, part in parted(cell, form):
+        if side != 0:
+            return shares_in(part)
+    return None
+
+
+def some_unlike(difference, cell):
+    """Shares in the cell at which the bend is not 0; None where there are none."""
+    rest = [(difference, cell)]
+    while rest:
+        bend, here = rest.pop()
+        bend, lines = settled(bend, here)
+        if lines:
+            rest.extend([(bend, part) for side, part in parted(here, central(lines, here))])
+            continue
+        shares = some_off_zero(bend[1], here)
+        if shares is not None:
             return shares
     return None
 
@@ -176,11 +66,11 @@ def unlike_shares(cell, first, second):
 def jump_shares(where, registers, many):
     """Shares at which the where word jumps; None where it jumps at none."""
     word, sign, line, first, second = where
+    difference = bend_of(("less", first, second), registers, many)
     for cell in line_cells(sign, line, many):
-        for small, form, other in piece_pairs(first, second, registers, cell):
-            shares = unlike_shares(small, form, other)
-            if shares is not None:
-                return shares
+        shares = some_unlike(difference, cell)
+        if shares is not None:
+            return shares
     return None
 
 

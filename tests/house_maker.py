@@ -93,3 +93,63 @@ def house_by(chance, many):
         house = (many, members_by(chance, many, 4, 3))
         if is_house(house):
             return house
+
+
+def step_by(chance, many):
+    """A stake that jumps at one line."""
+    line = chance.choice((1, 250, 333, 500, 750, 999, 1000, chance.randint(1, 1000)))
+    return ("where", chance.randrange(many), line, fig(chance.randint(-500, 500)), fig(chance.randint(-500, 500)))
+
+
+def stepping_house_by(chance, many, count):
+    """A house of so many ones whose stakes all jump."""
+    members = []
+    for k in range(count):
+        stakes = tuple(step_by(chance, many) for sign in range(many))
+        members.append(one_of(doubter_of(many, scale=chance.randrange(5), stakes=stakes), chance.randint(0, 100)))
+    return (many, tuple(members))
+
+
+def kink_by(chance, many, jumpy):
+    """A stake with one border, a jump as often as jumpy tells."""
+    if chance.random() < jumpy:
+        return step_by(chance, many)
+    first, second = (("times", chance.choice((-2, -1, 1, 2)), ("share", chance.randrange(many))) for k in (0, 1))
+    return (chance.choice(("least", "most")), first, ("sum", second, fig(chance.randint(-1000, 1000))))
+
+
+def kinky_house_by(chance, many, total, jumpy):
+    """A house of at most twelve ones with so many borders, where there is room for them."""
+    members = []
+    while total > 0 and len(members) < 12:
+        stakes = []
+        for sign in range(many):
+            count = min(total, chance.randint(0, 2))
+            total -= count
+            stake = fig(chance.randint(-500, 500))
+            for k in range(count):
+                stake = ("sum", stake, kink_by(chance, many, jumpy))
+            stakes.append(stake)
+        members.append(one_of(doubter_of(many, scale=4, stakes=tuple(stakes)), chance.randint(1, 1000)))
+    return (many, tuple(members))
+
+
+def small_house_by(chance, many):
+    """A house of few borders, of one of several kinds."""
+    kind = chance.randrange(3)
+    if kind == 0:
+        return stepping_house_by(chance, many, 1 if many == 3 else chance.randint(1, 3))
+    if kind == 1:
+        return kinky_house_by(chance, many, chance.randint(1, 5), chance.choice((0, 0.5, 1)))
+    return house_by(chance, many)
+
+
+def rival_of(many, told, motes=1):
+    """A one that stakes on each sign what told's number is above 1000 times its share: right is its mean alone."""
+    stakes = tuple(("less", ("fig", number), ("share", sign)) for sign, number in enumerate(told))
+    return one_of(doubter_of(many, "rival", 4, ZERO, stakes), motes)
+
+
+def stakes_house(*stakes, motes=1, scale=4):
+    """A house of one one with these stakes."""
+    return (len(stakes), (one_of(doubter_of(len(stakes), scale=scale, stakes=stakes), motes),))

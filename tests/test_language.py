@@ -19,6 +19,34 @@ TypedDict TYPE_CHECKING abstractmethod
 """.split())
 
 
+METHODS = set("""
+append clear copy count endswith extend find get index insert isalnum isalpha isdigit islower isspace isupper items join
+keys ljust lower lstrip partition pop remove replace reverse rfind rjust rpartition rsplit rstrip setdefault split
+splitlines startswith strip update upper values zfill bit_length __init__
+""".split())
+AT_ONCE = {"range", "zip", "enumerate", "reversed"}
+TAKES_AT_ONCE = {"list", "tuple", "dict", "sorted", "sum", "any", "all", "enumerate", "zip"}
+
+
+def defined_names(tree):
+    """Every name that a file defines at its own level, imports left aside."""
+    names = [node.name for node in tree.body if isinstance(node, (ast.FunctionDef, ast.ClassDef))]
+    for node in tree.body:
+        if isinstance(node, ast.Assign):
+            names += [target.id for target in node.targets]
+    return names
+
+
+def imported_names(tree):
+    return [alias.asname or alias.name for node in ast.walk(tree) if isinstance(node, ast.ImportFrom)
+            for alias in node.names]
+
+
+def called_name(node):
+    """The name that is called, where a plain one is."""
+    return node.func.id if isinstance(node, ast.Call) and isinstance(node.func, ast.Name) else None
+
+
 def bound_names(tree):
     """Every name that a file binds anywhere."""
     names = set()
@@ -60,7 +88,7 @@ class LanguageTest(unittest.TestCase):
                     self.assertLessEqual(node.end_lineno - node.lineno + 1, 40, (name, node.name))
 
     def test_imports_name_the_file_that_defines(self):
-        defined = {name: {node.name for node in tree.body if hasattr(node, "name")} for name, tree in self.trees()}
+        defined = {name: defined_names(tree) for name, tree in self.trees()}
         for name, tree in self.trees():
             for node in ast.walk(tree):
                 self.assertNotIsInstance(node, ast.Import)
@@ -86,6 +114,54 @@ class LanguageTest(unittest.TestCase):
                 if isinstance(node, ast.Name):
                     self.assertIn(node.id, names | BUILTINS, name)
                     self.assertFalse(node.id.startswith("_"), name)
+
+    def test_each_name_has_one_meaning(self):
+        for name, tree in self.trees():
+            top = defined_names(tree) + imported_names(tree)
+            self.assertEqual(len(top), len(set(top)), name)
+            taken = set(imported_names(tree)) | {node.name for node in tree.body if isinstance(node, ast.ClassDef)}
+            for function in ast.walk(tree):
+                if isinstance(function, (ast.FunctionDef, ast.Lambda)):
+                    local = bound_names(function) - {getattr(function, "name", None)}
+                    self.assertEqual(local & taken, set(), (name, getattr(function, "name", None)))
+
+    def test_no_two_files_import_from_each_other(self):
+        needs = {}
+        for name, tree in self.trees():
+            modules = [node.module for node in ast.walk(tree) if isinstance(node, ast.ImportFrom)]
+            needs[name] = {module.split(".")[1] + ".py" for module in modules}
+        while needs:
+            free = [name for name in needs if not needs[name] & set(needs)]
+            self.assertTrue(free, needs)
+            for name in free:
+                del needs[name]
+
+    def test_what_is_iterated_at_once(self):
+        for name, tree in self.trees():
+            taken = []
+            for node in ast.walk(tree):
+                self.assertNotIsInstance(node, (ast.GeneratorExp, ast.Set, ast.SetComp), name)
+                if isinstance(node, (ast.For, ast.comprehension)):
+                    taken.append(node.iter)
+                if called_name(node) in TAKES_AT_ONCE:
+                    taken += node.args
+            for node in ast.walk(tree):
+                if called_name(node) in AT_ONCE:
+                    self.assertIn(node, taken, (name, node.lineno))
+
+    def test_methods_and_signs(self):
+        own = {node.name for name, tree in self.trees() for top in tree.body if isinstance(top, ast.ClassDef)
+               for node in top.body if isinstance(node, ast.FunctionDef)}
+        for name, tree in self.trees():
+            for node in ast.walk(tree):
+                if isinstance(node, ast.Call) and isinstance(node.func, ast.Attribute):
+                    self.assertIn(node.func.attr, METHODS | own, (name, node.lineno))
+                if isinstance(node, ast.BinOp) and isinstance(node.op, ast.Pow):
+                    self.assertIsInstance(node.right, ast.Constant, (name, node.lineno))
+                if isinstance(node, ast.Compare) and any(isinstance(op, (ast.Is, ast.IsNot)) for op in node.ops):
+                    self.assertIsInstance(node.comparators[0], ast.Constant, (name, node.lineno))
+                if isinstance(node, ast.Constant) and isinstance(node.value, str):
+                    self.assertNotIn("%", node.value, (name, node.lineno))
 
     def test_no_floats_and_no_division(self):
         for name, tree in self.trees():
