@@ -34,7 +34,7 @@ def rough_power(base, exponent, bits):
     """The number, multiplied by itself as often as the exponent says, roughly; 1 of the exponent 0."""
     made = (1, 1, 0)
     square = trimmed(base, base, 0, bits)
-    while exponent:
+    while exponent > 0:
         if exponent & 1:
             made = rough_times(made, square, bits)
         square = rough_times(square, square, bits)
@@ -67,7 +67,8 @@ def compared(first, second):
 def within_roughly(far, days, weight, held, more, bits):
     """As compared, of what must not be above, and of what it must not be above, for days and more."""
     ahead = rough_power(MIDDLE + far, days + more, bits)
-    behind = rough_power(MIDDLE - far, days - more, bits)
+    # Where far is beyond 500 all days but one are within, as they are with 0.
+    behind = rough_power(max(0, MIDDLE - far), days - more, bits)
     ways = rough_times(ahead, behind, bits)
     taken = rough_times(ways, trimmed(weight * weight, weight * weight, 0, bits), bits)
     given = rough_times(rough_power(MIDDLE, 2 * days, bits), trimmed(held * held, held * held, 0, bits), bits)
@@ -87,7 +88,7 @@ def is_within_sure(far, days, weight, held, more):
 
 def most_off(far, days, weight, held):
     """The greatest number from -days to days that the days may be off by; None where there is none."""
-    if not is_within_sure(far, days, weight, held, -days):
+    if days < 0 or not is_within_sure(far, days, weight, held, -days):
         return None
     low, high = -days, days
     while low < high:

@@ -20,8 +20,7 @@ DEEDS = {
 MOST_DEEDS = 20
 MOST_DEEP = 4
 
-# 2 to the power of each scale.
-POWERS = (1, 2, 4, 8, 16)
+GREATEST_SCALE = 4
 WIDEST = 500
 
 LEAST_HELD = -1000
@@ -37,7 +36,7 @@ def is_name(thing):
 
 def power(scale):
     """2 to the power of a scale."""
-    return POWERS[scale]
+    return 1 << max(0, scale)
 
 
 def count_deed(thing, many, deep):
@@ -96,7 +95,7 @@ def is_doubter(thing, many):
     if not isinstance(thing, tuple) or len(thing) != 5:
         return False
     name, scale, begins, stakes, behinds = thing
-    if not is_name(name) or not is_within(scale, 0, len(POWERS) - 1) or not is_registers(begins):
+    if not is_name(name) or not is_within(scale, 0, GREATEST_SCALE) or not is_registers(begins):
         return False
     return are_stakes(stakes, scale, many) and are_behinds(behinds, many)
 

@@ -11,8 +11,7 @@ from nonegrowsrich.pulls import gaps, pulls_of, settled_pulls
 
 def may_hold(pulls, cell):
     """Whether the cell may hold right shares: no sign with shares is surely below another all over it."""
-    rows = gaps(pulls, cell)
-    return all([high >= 0 for sign in signs_on(cell) for low, high in rows[sign]])
+    return all([high >= 0 for sign in signs_on(cell) for low, high in gaps(pulls, sign, cell)])
 
 
 def right_parts(pulls, cell):

@@ -3,7 +3,7 @@
 A house is (many, members); a house in it is a member, ("house", name, members), and has no many of its own.
 """
 
-from nonegrowsrich.doubters import is_doubter, is_name, power, stakes_at
+from nonegrowsrich.doubters import GREATEST_SCALE, is_doubter, is_name, power, stakes_at
 from nonegrowsrich.errors import Crowded, NoPlace
 from nonegrowsrich.expressions import borders, first_word, is_registers
 from nonegrowsrich.shares import is_number, is_within
@@ -13,7 +13,6 @@ MOST_HOUSES = 12
 MOST_DEEP = 3
 MOST_BORDERS = {2: 400, 3: 60}
 MOST_WEIGHT = 10 ** 12
-GREATEST_SCALE = 4
 
 
 def is_weight(thing):

@@ -33,6 +33,8 @@ def line_end(sign, line, other, many):
 
 def line_cells(sign, line, many):
     """The cells that together are all shares with 1000 times the sign's number just line times n."""
+    if not 0 <= line <= 1000:
+        return []
     ends = [line_end(sign, line, other, many) for other in range(many) if other != sign]
     low, high = ends[0], ends[-1]
     if low == high:

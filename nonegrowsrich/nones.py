@@ -9,7 +9,7 @@ from nonegrowsrich.cells import corner_of, faces, parted, side_on, signs_on
 from nonegrowsrich.expressions import first_word
 from nonegrowsrich.finding import find
 from nonegrowsrich.forms import form_at, less_form, scale_form, short_form
-from nonegrowsrich.pulls import answering, answers, gap, pulls_of, settled_pulls
+from nonegrowsrich.pulls import answering, answers, gaps, pulls_of, settled_pulls
 from nonegrowsrich.shares import is_number, is_within
 
 
@@ -125,7 +125,7 @@ def sign_answers(sign, cell, pulls):
     while rest:
         here, wide = rest.pop()
         near, lines = settled_pulls(wide, here)
-        row = [gap(near[sign], other, here) for other in near]
+        row = gaps(near, sign, here)
         if answers(row, signs_on(here), not lines):
             continue
         if not lines or any([high < 0 for low, high in row]):

@@ -71,9 +71,10 @@ def gap(first, second, cell):
     return (sum([low for low, high in reaches]), sum([high for low, high in reaches]))
 
 
-def gaps(pulls, cell):
-    """For each sign the gaps of its pull to those of all signs."""
-    return [[gap(pull, other, cell) for other in pulls] for pull in pulls]
+def gaps(pulls, sign, cell):
+    """The gaps of the sign's pull to those of all signs."""
+    # Its own pull is just alike, however it bends.
+    return [(0, 0) if place == sign else gap(pulls[sign], pull, cell) for place, pull in enumerate(pulls)]
 
 
 def answers(row, present, straight):
@@ -88,5 +89,4 @@ def answering(pulls, cell):
     """The signs that surely answer all shares in the cell; of straight pulls, all that do."""
     present = signs_on(cell)
     straight = not any([terms for form, terms in pulls])
-    rows = gaps(pulls, cell)
-    return [sign for sign, row in enumerate(rows) if answers(row, present, straight)]
+    return [sign for sign in range(len(pulls)) if answers(gaps(pulls, sign, cell), present, straight)]

@@ -1,10 +1,10 @@
 """A shelf of doubters for plain rules of chance, and how far told shares missed what came."""
 
+from nonegrowsrich.doubters import GREATEST_SCALE
 from nonegrowsrich.shares import lowest
 
 ZERO = (0, 0, 0, 0)
 NO_STAKE = ("fig", 0)
-GREATEST_SCALE = 4
 AFTER_STAKE = 100
 
 

@@ -109,19 +109,24 @@ def need(is_so):
         raise NoText("nothing is written so")
 
 
-def take_expression(words, at, deep):
-    """An expression, and the place behind it."""
-    word = word_at(words, at)
-    need(deep > 0 and word in SHAPES)
-    made = [word]
+def take_shaped(words, at, shape, deep, take_part):
+    """What stands behind a word of the shape, with that word, and the place behind it."""
+    made = [words[at]]
     at += 1
-    for kind in SHAPES[word]:
+    for kind in shape:
         if kind == "part":
-            item, at = take_expression(words, at, deep - 1)
+            item, at = take_part(words, at, deep - 1)
         else:
             item, at = number_of(word_at(words, at)), at + 1
         made.append(item)
     return (tuple(made), at)
+
+
+def take_expression(words, at, deep):
+    """An expression, and the place behind it."""
+    word = word_at(words, at)
+    need(deep > 0 and word in SHAPES)
+    return take_shaped(words, at, SHAPES[word], deep, take_expression)
 
 
 def take_bracketed(words, at, deep):
@@ -136,15 +141,7 @@ def take_deed(words, at, deep):
     """A deed, and the place behind it."""
     word = word_at(words, at)
     need(word in DEEDS)
-    made = [word]
-    at += 1
-    for kind in DEEDS[word]:
-        if kind == "part":
-            item, at = take_bracketed(words, at, deep - 1)
-        else:
-            item, at = number_of(word_at(words, at)), at + 1
-        made.append(item)
-    return (tuple(made), at)
+    return take_shaped(words, at, DEEDS[word], deep, take_bracketed)
 
 
 def take_deeds(words, at, deep):

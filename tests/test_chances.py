@@ -78,6 +78,11 @@ class MostOffTest(unittest.TestCase):
             self.assertEqual(most_off(500, days, 3, 3 * 2 ** days), days)
             self.assertEqual(most_off(500, days, 3, 3 * 2 ** days - 1), days - 1)
 
+    def test_far_500_of_long_rows(self):
+        for days in (40, 60, 200):
+            for weight, held in ((10 ** 12, 1), (10 ** 12, 0), (1, 1), (1, 10 ** 9), (10 ** 400, 3)):
+                self.assertEqual(most_off(500, days, weight, held), slow_most_off(500, days, weight, held))
+
     def test_just_alike_is_taken(self):
         # 800 ** (d + u) times 200 ** (d - u) is a square: there both sides may be just alike, and by 1 not.
         for days in range(0, 40, 3):

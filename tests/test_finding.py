@@ -10,7 +10,7 @@ from nonegrowsrich.houses import gain, is_house, is_right, ones
 from nonegrowsrich.shares import is_shares
 from tests.crooked import full, full_of_all
 from tests.house_maker import (
-    NONE, ZERO, doubter_of, fig, figs, house_by, inner, kinky_house_by, one_of, rival_of, small_house_by, stakes_house,
+    NONE, doubter_of, fig, figs, house_by, inner, kinky_house_by, one_of, rival_of, small_house_by, stakes_house,
     stepping_house_by,
 )
 from tests.slow_find import as_shares, slow_find, slow_lines

@@ -15,7 +15,7 @@ from nonegrowsrich.keeper import Keeper
 from nonegrowsrich.shelf import after, lagging, rival, tent
 from tests.anything import wrong_things
 from tests.crooked import B37, B264, full
-from tests.house_maker import NONE, ZERO, doubter_of, doubter_by, fig, figs, inner
+from tests.house_maker import NONE, doubter_by, doubter_of, fig, figs, inner
 
 RIVAL = rival(2, (400, 600))
 LEAP = doubter_of(2, "leap", stakes=(("where", 0, 500, fig(1), fig(-1)), NONE))

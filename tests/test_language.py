@@ -1,6 +1,7 @@
 """Those rules of ../shared/LANGUAGE.md that are plainly seen from the package's files."""
 
 import ast
+import builtins
 import re
 import unittest
 from pathlib import Path
@@ -109,7 +110,7 @@ class LanguageTest(unittest.TestCase):
     def test_names_are_own_or_allowed(self):
         for name, tree in self.trees():
             names = bound_names(tree)
-            self.assertEqual(names & BUILTINS, set(), name)
+            self.assertEqual(names & (BUILTINS | set(dir(builtins))), set(), name)
             for node in ast.walk(tree):
                 if isinstance(node, ast.Name):
                     self.assertIn(node.id, names | BUILTINS, name)

@@ -216,6 +216,32 @@ class ShowsNoneTest(unittest.TestCase):
         self.shows(stakes_house(fig(1), NONE), ("cut", (0, -1), ("sign", 0), ("sign", 1)), False)
         self.shows(stakes_house(fig(1), NONE), ("cut", (0, -1), ("sign", 0), ("sign", 0)), False)
 
+    def test_gains_that_come_near_to_0(self):
+        # Sign 0's gain sinks to 0 towards 400 thousandths, and is there no more.
+        sinking = ("less", fig(400), ("share", 0))
+        tree = ("cut", (3, -2), ("sign", 0), ("sign", 1))
+        self.shows(stakes_house(("where", 0, 400, sinking, fig(-1)), NONE), tree, True)
+        # It is 0 from 300 thousandths on.
+        level = ("most", NONE, ("less", fig(300), ("share", 0)))
+        self.shows(stakes_house(("where", 0, 400, level, fig(-1)), NONE), tree, False)
+        # It is 0 just at 300 thousandths.
+        touching = ("most", ("less", fig(300), ("share", 0)), ("less", ("share", 0), fig(300)))
+        self.shows(stakes_house(("where", 0, 400, touching, fig(-1)), NONE), tree, False)
+        above = ("sum", touching, fig(1))
+        self.shows(stakes_house(("where", 0, 400, above, fig(-1)), NONE), tree, True)
+
+    def test_signs_that_are_alike(self):
+        # From 1 thousandth of sign 2 on the first two are alike, and sign 2 is below them by more or less.
+        first = ("where", 2, 1, LEAP, NONE)
+        below = ("least", fig(-1), ("less", ("share", 0), ("fig", 500)))
+        house = stakes_house(first, NONE, below)
+        for sign in (0, 1):
+            tree = ("cut", (-1, -1, 999), HALF3_TREE, ("sign", sign))
+            self.shows(house, tree, True)
+        self.shows(house, ("cut", (-1, -1, 999), HALF3_TREE, ("sign", 2)), False)
+        self.shows(house, ("cut", (-1, -1, 1000), HALF3_TREE, ("sign", 0)), False)
+        self.assertIs(shows_none(house, none_paper(house)), True)
+
     def test_where_some_are_right(self):
         self.shows(SOME, ("cut", (3, -2), ("sign", 0), ("sign", 1)), False)
         self.shows(SOME, ("cut", (3, -2), ("sign", 0), ("cut", (-3, 2), ("sign", 1), ("sign", 0))), False)
